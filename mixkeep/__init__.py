@@ -1,0 +1,1 @@
+"""Mixkeep: nets of yes and no, and the mixes that keep them."""
