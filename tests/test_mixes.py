@@ -4,29 +4,7 @@ import itertools
 import unittest
 
 from mixkeep.mixes import TAKES, breach, mixed, places, takes
-
-MIXES = ("no", "yes", "least", "most", "middle", "odd")
-MANY = {"no": 1, "yes": 1, "least": 2, "most": 2, "middle": 3, "odd": 3}
-YES_COUNTS = {"no": (), "yes": (0, 1), "least": (2,), "most": (1, 2), "middle": (2, 3), "odd": (1, 3)}
-
-
-def slowly_mixed(mix, width, rows):
-    """The mix place by place, by how many of the rows are yes there."""
-    made = 0
-    for place in range(width):
-        count = len([row for row in rows if row & (1 << place)])
-        if count in YES_COUNTS[mix]:
-            made += 1 << place
-    return made
-
-
-def slowly_kept(mix, width, table):
-    """Whether a mix keeps a table, by trying all rows in all orders."""
-    rows = [row for row in range(1 << width) if table & (1 << row)]
-    for chosen in itertools.product(rows, repeat=MANY[mix]):
-        if not table & (1 << slowly_mixed(mix, width, chosen)):
-            return False
-    return True
+from slowly import MANY, MIXES, slowly_kept, slowly_mixed
 
 
 class Case(unittest.TestCase):
