@@ -67,11 +67,14 @@ def all_names(told):
     return tuple(sorted(found))
 
 
-def read_lines(text):
-    """What `read_line` tells of each line of a net's text."""
+def lines_of(text):
+    """The lines of a net's text; the empty text has none, though a split makes an empty one of it."""
+    return text.split("\n") if text != "" else []
+
+
+def read_lines(lines):
+    """What `read_line` tells of each of a net's lines."""
     told = []
-    # The empty text has no line at all, though a split makes an empty one of it.
-    lines = text.split("\n") if text != "" else []
     for number, line in enumerate(lines):
         told.append(read_line(line, number))
         # A line's own faults go first, so this is asked only of a line that could be read.
@@ -86,12 +89,17 @@ def tie_of(known, names, rows):
     return (scope, sum([1 << row for row in rows]))
 
 
-def read_net(text):
-    """The names of a net's text, rising, and its net."""
-    told = read_lines(text)
+def net_of(lines):
+    """The names of a net's lines, rising, and their net."""
+    told = read_lines(lines)
     known = all_names(told)
     ties = tuple([tie_of(known, names, rows) for names, rows in told])
     return (known, (len(known), ties))
+
+
+def read_net(text):
+    """The names of a net's text, rising, and its net."""
+    return net_of(lines_of(text))
 
 
 def shown_row(width, row):

@@ -32,6 +32,9 @@ WORDS_OUT = (
     "NamedTuple TypedDict TYPE_CHECKING abstractmethod"
 ).split()
 PYTHONS_NAMES = dir(builtins)
+WALKED = ("zip", "enumerate", "reversed", "range")
+VIEWS = ("items", "keys", "values")
+WALKERS = ("list", "tuple", "dict", "sorted", "sum", "any", "all", "enumerate", "zip", "min", "max")
 
 
 def files():
@@ -162,6 +165,69 @@ class Steps(unittest.TestCase):
         for path, node in nodes(ast.Call):
             if isinstance(node.func, ast.Attribute):
                 self.assertIn(node.func.attr, METHODS + own, f"{path.name} {node.lineno}")
+
+    def test_is(self):
+        for path, node in nodes(ast.Compare):
+            sides = [node.left] + node.comparators
+            for number, operator in enumerate(node.ops):
+                if isinstance(operator, (ast.Is, ast.IsNot)):
+                    beside = sides[number + 1]
+                    self.assertTrue(isinstance(beside, ast.Constant), f"{path.name} {node.lineno}")
+                    self.assertIn(beside.value, (None, True, False), f"{path.name} {node.lineno}")
+
+    def test_f_strings(self):
+        for path, node in nodes(ast.FormattedValue):
+            self.assertIsInstance(node.value, ast.Name, f"{path.name} {node.lineno}")
+            self.assertIsNone(node.format_spec, f"{path.name} {node.lineno}")
+
+    def test_walked_at_once(self):
+        """What is walked stands behind an `in`, or within a call that walks it."""
+        for path, tree in trees():
+            walked = [node.iter for node in ast.walk(tree) if isinstance(node, (ast.For, ast.comprehension))]
+            for node in ast.walk(tree):
+                if isinstance(node, ast.Call) and isinstance(node.func, ast.Name) and node.func.id in WALKERS:
+                    walked.extend(node.args[:1])
+            for node in ast.walk(tree):
+                if isinstance(node, ast.Call) and isinstance(node.func, ast.Name) and node.func.id in WALKED:
+                    self.assertIn(node, walked, f"{path.name} {node.lineno}")
+                if isinstance(node, ast.Call) and isinstance(node.func, ast.Attribute) and node.func.attr in VIEWS:
+                    self.assertIn(node, walked, f"{path.name} {node.lineno}")
+
+    def test_sets(self):
+        """A set is asked on the spot."""
+        for path, tree in trees():
+            asked = []
+            for node in ast.walk(tree):
+                if isinstance(node, ast.Compare):
+                    asked.extend([node.left] + node.comparators)
+                if isinstance(node, ast.Call) and isinstance(node.func, ast.Name) and node.func.id in ("sorted", "len"):
+                    asked.extend(node.args)
+            for node in ast.walk(tree):
+                if isinstance(node, ast.Call) and isinstance(node.func, ast.Name):
+                    if node.func.id in ("set", "frozenset"):
+                        self.assertIn(node, asked, f"{path.name} {node.lineno}")
+
+    def test_locals(self):
+        """No local or parameter is called like a class or an import of its file."""
+        for path, tree in trees():
+            taken = [node.name for node in tree.body if isinstance(node, ast.ClassDef)]
+            for node in tree.body:
+                if isinstance(node, ast.ImportFrom):
+                    taken.extend(name.asname or name.name for name in node.names)
+            for node in ast.walk(tree):
+                if isinstance(node, ast.Name) and isinstance(node.ctx, ast.Store):
+                    self.assertNotIn(node.id, taken, f"{path.name} {node.lineno}")
+                if isinstance(node, ast.arg):
+                    self.assertNotIn(node.arg, taken, f"{path.name} {node.lineno}")
+
+    def test_values_of_objects(self):
+        """No name is a method in one class and a value in another, nor a value called like a method of Python's own."""
+        methods = {part.name for path, node in nodes(ast.ClassDef) for part in node.body if hasattr(part, "name")}
+        values = {node.attr for path, node in nodes(ast.Attribute) if isinstance(node.ctx, ast.Store)}
+        self.assertFalse(methods & values)
+        for kind in (str, int, list, dict, set, bytes, tuple):
+            self.assertFalse(values & set(dir(kind)), kind)
+            self.assertFalse((methods - set(DUNDER_METHODS)) & set(dir(kind)), kind)
 
 
 if __name__ == "__main__":

@@ -6,57 +6,12 @@ import unittest
 
 from mixkeep.nets import unmet
 from mixkeep.pushes import push_fault, pushed
-from slowly import meeting, rows_of, some_net, some_nets
+from slowly import all_pushes, dead_ties, meeting, rows_of, slow_push_fault, some_net, some_nets
 
 WAYS = ("up", "down")
 
 # Each implies the next: a row is at fault that is yes ahead and no behind.
 IMPLIED = 0b1101
-
-
-def letters(width, row):
-    return ["y" if row & (1 << place) else "n" for place in range(width)]
-
-
-def slowly_live(way, tie, known):
-    """The rows of a tie that have the way's letter at each place of a known unknown."""
-    letter = {"up": "y", "down": "n"}[way]
-    scope, table = tie
-    live = []
-    for row in rows_of(len(scope), table):
-        told = letters(len(scope), row)
-        if [told[place] for place in range(len(scope)) if scope[place] in known and told[place] != letter] == []:
-            live.append(told)
-    return live
-
-
-def slowly_pushes(way, tie, known):
-    """The unknowns that a tie pushes."""
-    letter = {"up": "y", "down": "n"}[way]
-    live = slowly_live(way, tie, known)
-    found = []
-    for place, unknown in enumerate(tie[0]):
-        if unknown not in known and live and {told[place] for told in live} == {letter}:
-            found.append(unknown)
-    return found
-
-
-def slow_fault(net, way, pushes):
-    known = []
-    for place, (number, unknown) in enumerate(pushes):
-        if number not in range(len(net[1])) or unknown not in slowly_pushes(way, net[1][number], known):
-            return place
-        known.append(unknown)
-    return None
-
-
-def all_pushes(net, way, known):
-    """All pairs that could be pushed next."""
-    return [(number, unknown) for number, tie in enumerate(net[1]) for unknown in slowly_pushes(way, tie, known)]
-
-
-def dead_ties(net, way, known):
-    return [number for number, tie in enumerate(net[1]) if not slowly_live(way, tie, known)]
 
 
 def flipped(net):
@@ -95,7 +50,7 @@ class Case(unittest.TestCase):
             self.assertIs(type(push), tuple)
             self.assertEqual([type(number) for number in push], [int, int], place)
         self.fault_by(net, way, pushes, None)
-        self.assertIsNone(slow_fault(net, way, pushes), place)
+        self.assertIsNone(slow_push_fault(net, way, pushes), place)
         known = [unknown for number, unknown in pushes]
         if dead is None:
             self.assertEqual(dead_ties(net, way, known), [], place)
@@ -200,7 +155,7 @@ class PushFault(Case):
         for net in (chain(2), (2, (((0, 1), 0b1000), ((1,), 0))), (2, (((1, 0), 0b1010), ((1, 0), IMPLIED)))):
             for many in range(4):
                 for pushes in itertools.product(pairs, repeat=many):
-                    self.fault(net, pushes, slow_fault(net, "up", pushes))
+                    self.fault(net, pushes, slow_push_fault(net, "up", pushes))
 
     def test_against_a_second_reading(self):
         chance = random.Random(11)
@@ -208,7 +163,7 @@ class PushFault(Case):
         for net in some_nets(12, 300, 12, 24):
             for way in WAYS:
                 for pushes in rows_of_pushes(chance, net, way):
-                    due = slow_fault(net, way, pushes)
+                    due = slow_push_fault(net, way, pushes)
                     self.fault_by(net, way, pushes, due)
                     faults[due] = True
         self.assertTrue({None, 0, 1, 2, 3} <= set(faults))
